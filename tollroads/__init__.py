@@ -1,0 +1,1 @@
+"""Tollroads: travellers who choose their ways, with exact rests, best routings and certificates."""

@@ -1,0 +1,79 @@
+"""Trips, their ways, and what is and is not a routing for them."""
+
+from tollroads.errors import BadDemand, BadRouting, BadTrips
+from tollroads.nets import all_ways, check_few, check_net, is_joint
+from tollroads.ratios import add_all
+from tollroads.shapes import is_amount, is_demand, is_integer, is_row
+
+
+def is_trip(net, value):
+    """Tell whether a value is a triple (start, goal, demand) with a way."""
+    if not (is_row(value, 3, 3) and is_joint(net[0], value[0], value[1]) and is_demand(value[2])):
+        return False
+    return len(all_ways(net[1], value[0], value[1])) > 0
+
+
+def check_trips(net, trips):
+    if not is_row(trips, 1, 3):
+        raise BadTrips(None)
+    for index, trip in enumerate(trips):
+        if not is_trip(net, trip) or trip[:2] in [earlier[:2] for earlier in trips[:index]]:
+            raise BadTrips(index)
+
+
+def check_demand(demand):
+    if not is_demand(demand):
+        raise BadDemand("the value is no demand")
+
+
+def trip_tables(net, trips):
+    """Check a net and trips; return the list with, for each trip, the ascending tuple of all its ways.
+
+    The bound on their number is left to the caller, since TooMany comes after the errors of all other arguments.
+    """
+    check_net(net)
+    check_trips(net, trips)
+    return [all_ways(net[1], trip[0], trip[1]) for trip in trips]
+
+
+def bounded_trip_tables(net, trips):
+    """Return the same tables where no other argument is left to check."""
+    tables = trip_tables(net, trips)
+    check_few(tables)
+    return tables
+
+
+def demands_of(trips):
+    return [trip[2] for trip in trips]
+
+
+def is_used_way(table, value):
+    """Tell whether a value is a pair of a way in the table and a positive ratio."""
+    if not (is_row(value, 2, 2) and isinstance(value[0], tuple)):
+        return False
+    # (True,) equals (1,) in Python, so that the table alone would let it pass.
+    if not all([is_integer(road) for road in value[0]]):
+        return False
+    return value[0] in table and is_amount(value[1]) and value[1][0] > 0
+
+
+def is_part(table, demand, value):
+    """Tell whether a value is what a routing has for one trip."""
+    if not (isinstance(value, tuple) and all([is_used_way(table, pair) for pair in value])):
+        return False
+    used = [pair[0] for pair in value]
+    if any([later <= earlier for earlier, later in zip(used, used[1:])]):
+        return False
+    return add_all([pair[1] for pair in value]) == demand
+
+
+def is_routing(tables, demands, value):
+    """Tell whether a value is a routing for demands over tables of ways."""
+    if not is_row(value, len(tables), len(tables)):
+        return False
+    return all([is_part(table, demand, part) for table, demand, part in zip(tables, demands, value)])
+
+
+def check_routing(tables, demands, routing):
+    if not is_routing(tables, demands, routing):
+        raise BadRouting("the value is no routing for the trips")
