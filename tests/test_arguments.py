@@ -117,7 +117,8 @@ class ArgumentsTest(Raising, unittest.TestCase):
                 self.assert_raises(ERRORS[names[left]], field, function, *arguments)
 
     def test_calls_go_on_after_errors(self):
-        # A call that raises an error changes nothing, and equal arguments have equal answers.
+        # A call that raises an error changes nothing, and equal arguments have equal answers: those of these calls
+        # are the only right ones.
         for function, kinds, right in CALLS:
             before = repr(right)
             first = function(*right)

@@ -26,7 +26,8 @@ class ErrorsTest(unittest.TestCase):
         for name, field in FIELDS.items():
             for worth in (0, 3, None):
                 with self.subTest(name=name, worth=worth):
-                    self.assertEqual(vars(getattr(errors, name)(worth)), {field: worth})
+                    got = getattr(getattr(errors, name)(worth), field)
+                    self.assertEqual((type(got), got), (type(worth), worth))
 
     def test_names_are_unlike_classes(self):
         self.assertEqual(len({getattr(errors, name) for name in [*PLAIN, *FIELDS]}), 34)

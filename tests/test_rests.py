@@ -29,7 +29,6 @@ class RestTest(Raising, unittest.TestCase):
         self.assert_same(rest_total(net, trips, tolls), ratio(total_of(net, routing)))
         taken = sum(flow * number(toll) for flow, toll in zip(flows_of(net, routing), tolls))
         self.assert_same(takings(net, trips, tolls), ratio(taken))
-        self.assert_same(rest(net, trips, tolls), routing)
 
     def test_many_cases(self):
         for net, trips, tolls in samples(4, 150):
