@@ -1,7 +1,7 @@
 """Nets of roads and the ways in them."""
 
-from tollroads.errors import BadNet, BadNode, TooMany
-from tollroads.shapes import is_row, is_whole
+from tollroads.errors import BadNet, BadNode, NoWay, TooMany
+from tollroads.shapes import is_integer, is_row, is_whole
 
 MOST_WAYS = 20
 
@@ -64,6 +64,32 @@ def longer(roads, way, met):
         if road[0] == met[-1] and road[1] not in met:
             steps.append(((*way, index), (*met, road[1])))
     return steps
+
+
+def is_linked(net, start, goal):
+    """Tell whether two values are unlike nodes with a way from the first to the second."""
+    return is_joint(net[0], start, goal) and len(all_ways(net[1], start, goal)) > 0
+
+
+def is_way(table, value):
+    """Tell whether a value is a way of the table."""
+    # (True,) equals (1,) in Python, so that the table alone would let it pass.
+    return isinstance(value, tuple) and all([is_integer(road) for road in value]) and value in table
+
+
+def roads_on(table):
+    """Return the ascending list of the roads that lie on ways."""
+    return sorted(set([road for way in table for road in way]))
+
+
+def linked_ways(net, start, goal):
+    """Check a net and two nodes; return all ways between them, of which there must be one."""
+    check_net(net)
+    check_joint(net, start, goal)
+    table = all_ways(net[1], start, goal)
+    if len(table) == 0:
+        raise NoWay("there is no way between the nodes")
+    return table
 
 
 def ways(net, start, goal):

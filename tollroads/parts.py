@@ -3,8 +3,8 @@
 from itertools import combinations
 
 from tollroads.equilibria import free_rest_costs, free_rest_total
-from tollroads.errors import NoWay, TooMany
-from tollroads.nets import all_ways, check_few, check_joint, check_net
+from tollroads.errors import TooMany
+from tollroads.nets import check_few, linked_ways, roads_on
 from tollroads.ratios import less
 from tollroads.trips import bounded_trip_tables, check_demand, demands_of
 
@@ -13,11 +13,7 @@ MOST_ROADS = 8
 
 def checked_table(net, start, goal, demand):
     """Return all ways between two nodes, or raise the error of the leftmost wrong argument."""
-    check_net(net)
-    check_joint(net, start, goal)
-    table = all_ways(net[1], start, goal)
-    if len(table) == 0:
-        raise NoWay("there is no way between the nodes")
+    table = linked_ways(net, start, goal)
     check_demand(demand)
     check_few([table])
     return table
@@ -31,11 +27,6 @@ def without(table, road):
 def within(table, roads):
     """Return the ways that use these roads alone."""
     return tuple([way for way in table if all([road in roads for road in way])])
-
-
-def roads_on(table):
-    """Return the ascending list of the roads that lie on ways."""
-    return sorted(set([road for way in table for road in way]))
 
 
 def cost_on(net, table, demand):

@@ -1,24 +1,36 @@
 """Trips, their ways, and what is and is not a routing for them."""
 
 from tollroads.errors import BadDemand, BadRouting, BadTrips
-from tollroads.nets import all_ways, check_few, check_net, is_joint
+from tollroads.nets import all_ways, check_few, check_net, is_linked, is_way
 from tollroads.ratios import add_all
-from tollroads.shapes import is_amount, is_demand, is_integer, is_row
+from tollroads.shapes import is_amount, is_demand, is_row
 
 
 def is_trip(net, value):
     """Tell whether a value is a triple (start, goal, demand) with a way."""
-    if not (is_row(value, 3, 3) and is_joint(net[0], value[0], value[1]) and is_demand(value[2])):
-        return False
-    return len(all_ways(net[1], value[0], value[1])) > 0
+    return is_row(value, 3, 3) and is_demand(value[2]) and is_linked(net, value[0], value[1])
+
+
+def first_wrong(net, rows, is_right, twice):
+    """Return (wrong, index): whether a value is not a tuple of 1 to 3 right rows, and which row is the first wrong one.
+
+    The index is None if the value is no such tuple at all. Unless they may stand twice, start and goal of an earlier
+    row are wrong.
+    """
+    if not is_row(rows, 1, 3):
+        return True, None
+    for index, row in enumerate(rows):
+        if not is_right(net, row):
+            return True, index
+        if not twice and row[:2] in [earlier[:2] for earlier in rows[:index]]:
+            return True, index
+    return False, None
 
 
 def check_trips(net, trips):
-    if not is_row(trips, 1, 3):
-        raise BadTrips(None)
-    for index, trip in enumerate(trips):
-        if not is_trip(net, trip) or trip[:2] in [earlier[:2] for earlier in trips[:index]]:
-            raise BadTrips(index)
+    wrong, index = first_wrong(net, trips, is_trip, False)
+    if wrong:
+        raise BadTrips(index)
 
 
 def check_demand(demand):
@@ -33,7 +45,12 @@ def trip_tables(net, trips):
     """
     check_net(net)
     check_trips(net, trips)
-    return [all_ways(net[1], trip[0], trip[1]) for trip in trips]
+    return tables_of(net, trips)
+
+
+def tables_of(net, rows):
+    """Return the list of the ways of rows that begin with a start and a goal."""
+    return [all_ways(net[1], row[0], row[1]) for row in rows]
 
 
 def bounded_trip_tables(net, trips):
@@ -49,12 +66,7 @@ def demands_of(trips):
 
 def is_used_way(table, value):
     """Tell whether a value is a pair of a way in the table and a positive ratio."""
-    if not (is_row(value, 2, 2) and isinstance(value[0], tuple)):
-        return False
-    # (True,) equals (1,) in Python, so that the table alone would let it pass.
-    if not all([is_integer(road) for road in value[0]]):
-        return False
-    return value[0] in table and is_amount(value[1]) and value[1][0] > 0
+    return is_row(value, 2, 2) and is_way(table, value[0]) and is_amount(value[1]) and value[1][0] > 0
 
 
 def is_part(table, demand, value):
