@@ -2,17 +2,28 @@
 
 import unittest
 
-from tests.support import BRAESS, Raising, SMALL, spoiled, zeros
+from tests.gamesupport import ONE as SINGLE, PAIR, RESTLESS
+from tests.support import BRAESS, PIGOU, Raising, SMALL, spoiled, zeros
 from tollroads.bests import best, best_total, margin_tolls, selfish_price, shows_best
-from tollroads.errors import (BadDemand, BadIndex, BadLanes, BadNet, BadNode, BadRouting, BadShare, BadTolls,
-                              BadTrips)
+from tollroads.errors import (BadDemand, BadGame, BadIndex, BadKinds, BadLanes, BadLimits, BadNet, BadNode, BadOwners,
+                              BadRouting, BadShare, BadState, BadTolls, BadTrips, BadWeights, BadWishes)
+from tollroads.games import company, game_potential, game_total, loads, player_times
+from tollroads.heavies import heavy_ring, heavy_standing, shows_heavy_ring
+from tollroads.kinds import kinds_rest, shows_kinds
 from tollroads.lanes import lane_corners, lane_rest, shows_lane_rest
 from tollroads.leaders import leader_plan, shows_plan
+from tollroads.limits import limited_rest, shows_limited
 from tollroads.nets import ways
 from tollroads.nettext import write_net
+from tollroads.owners import owner_totals, shared_rest, shows_shared
 from tollroads.parts import best_part, closures, harmful_roads
+from tollroads.reductions import reduction, shows_reduction
 from tollroads.rests import cheapest_ways, more_of, rest, rest_costs, rest_total, shows_rest, takings
 from tollroads.routings import flows, potential, times, total
+from tollroads.standings import (best_answers, best_state, better_steps, lowest_state, shows_walk, standing_prices,
+                                 standing_states, stands, walk_to_standing)
+from tollroads.tollsets import fewest_tolls, least_tolls, shows_toll_paper, shows_tolls, toll_paper
+from tollroads.wishes import shows_wished, wished_rest
 
 TRIPS = ((0, 2, (3, 2)), (0, 1, (1, 1)))
 ROUTING = ((((0, 2), (1, 1)), ((1,), (1, 2))), (((0,), (1, 1)),))
@@ -22,10 +33,24 @@ BEST = ((((0, 2), (1, 2)), ((1, 3), (1, 2))),)
 LANES = ((1, 0), (2, 1), (0, 5))
 PLAN = (((13, 6), (5, 6), (0, 1)), ((2, 3), (5, 6), (0, 1)), ((3, 2), (0, 1), (0, 1)), (83, 12))
 ONE = ((0, 3, (1, 1)),)
+TOLD, TOLD_TRIPS = ROUTING[:1], TRIPS[:1]
+FOUR = (2, ((0, 1, 1, 0), (0, 1, 0, 4)))
+STATE = ((0, 1), (2,))
+# A heavy game in which a state stands.
+CALM = (3, ((0, 1, (1, 2, 3)), (1, 2, (0, 0, 0)), (0, 2, (2, 5, 5))), ((0, 2), (0, 2)))
+RING = (((0, 4, 3), (0, 1)), ((5,), (0, 1)), ((5,), (2, 3)), ((0, 4, 3), (2, 3)))
+OWNERS = ((0, 1, (1, 1)), (0, 1, (6, 1)))
+OWNED = ((((0,), (1, 1)),), (((0,), (3, 2)), ((1,), (9, 2))))
+LIMITS = ((1, 1), None)
+LIMITED = (((((0,), (1, 1)), ((1,), (5, 1))),), ((3, 1), (0, 1)))
+WISHES = ((0, 2, 9, 2), (0, 1, 10, 1))
+KINDS = ((0, 1, (2, 1), 1), (0, 1, (2, 1), 100))
 
 # The class of the error for each kind of argument; "value" stands for the last one of a function `shows_..`.
 ERRORS = {"net": BadNet, "node": BadNode, "trips": BadTrips, "routing": BadRouting, "tolls": BadTolls,
-          "index": BadIndex, "demand": BadDemand, "lanes": BadLanes, "share": BadShare}
+          "index": BadIndex, "demand": BadDemand, "lanes": BadLanes, "share": BadShare, "game": BadGame,
+          "heavy": BadGame, "state": BadState, "weights": BadWeights, "owners": BadOwners, "limits": BadLimits,
+          "wishes": BadWishes, "kinds": BadKinds}
 
 CALLS = (
     (ways, "net node node", (SMALL, 0, 2)),
@@ -54,6 +79,40 @@ CALLS = (
     (harmful_roads, "net node node demand", (BRAESS, 0, 3, (1, 1))),
     (best_part, "net node node demand", (BRAESS, 0, 3, (1, 1))),
     (closures, "net trips", (SMALL, TRIPS)),
+    (reduction, "net node node", (PIGOU, 0, 1)),
+    (shows_reduction, "net node node value", (SMALL, 0, 2, (("row", 0, 2), ("side", 0, 1)))),
+    (least_tolls, "net trips routing", (SMALL, TOLD_TRIPS, TOLD)),
+    (toll_paper, "net trips routing", (SMALL, TOLD_TRIPS, TOLD)),
+    (fewest_tolls, "net trips routing", (SMALL, TOLD_TRIPS, TOLD)),
+    (shows_tolls, "net trips routing value", (SMALL, TOLD_TRIPS, TOLD, ((1, 2), ((0, 1), (1, 1), (0, 1))))),
+    (shows_toll_paper, "net trips routing value",
+     (SMALL, TOLD_TRIPS, TOLD, (True, ((0, (0, 2), (-1, 2)), (0, (1,), (1, 2)))))),
+    (player_times, "game state", (PAIR, STATE)),
+    (loads, "game state", (PAIR, STATE)),
+    (company, "game state", (PAIR, STATE)),
+    (game_total, "game state", (PAIR, STATE)),
+    (game_potential, "game state", (PAIR, STATE)),
+    (better_steps, "game state", (PAIR, STATE)),
+    (best_answers, "game state", (PAIR, STATE)),
+    (stands, "game state", (PAIR, STATE)),
+    (standing_states, "game", (PAIR,)),
+    (walk_to_standing, "game state", (SINGLE, ((1,),))),
+    (shows_walk, "game state value", (PAIR, ((2,), (2,)), ((0, (0, 1)),))),
+    (best_state, "game", (PAIR,)),
+    (lowest_state, "game", (PAIR,)),
+    (standing_prices, "game", (PAIR,)),
+    (heavy_standing, "weights heavy", ((1, 2), RESTLESS)),
+    (heavy_ring, "weights heavy", ((1, 2), CALM)),
+    (shows_heavy_ring, "weights heavy value", ((1, 2), RESTLESS, RING)),
+    (shared_rest, "net owners", (FOUR, OWNERS)),
+    (owner_totals, "net owners", (FOUR, OWNERS)),
+    (shows_shared, "net owners value", (FOUR, OWNERS, OWNED)),
+    (limited_rest, "net trips limits", (FOUR, OWNERS[1:], LIMITS)),
+    (shows_limited, "net trips limits value", (FOUR, OWNERS[1:], LIMITS, LIMITED)),
+    (wished_rest, "net wishes", (SMALL, WISHES)),
+    (shows_wished, "net wishes value", (FOUR, ((0, 1, 10, 1),), (((6, 1),), ((((0,), (4, 1)), ((1,), (2, 1))),)))),
+    (kinds_rest, "net kinds tolls", (FOUR, KINDS, ((3, 1), (0, 1)))),
+    (shows_kinds, "net kinds tolls value", (FOUR, KINDS, ((3, 1), (0, 1)), ((((1,), (2, 1)),), (((0,), (2, 1)),)))),
 )
 
 
@@ -70,9 +129,35 @@ def wanted_field(kind, right, path, wrong):
         if len(path) == 0 or path[0] == 0:
             return {"index": None}
         return {"index": path[1] if len(path) > 1 else first_strange(wrong[1], right[1], 10)}
-    if kind in ("trips", "lanes"):
-        return {"index": path[0] if path else first_strange(wrong, right, 3 if kind == "trips" else 8)}
+    if kind in ("trips", "lanes", "owners", "wishes", "kinds"):
+        return {"index": path[0] if path else first_strange(wrong, right, 8 if kind == "lanes" else 3)}
+    if kind in ("game", "heavy"):
+        return {"index": wanted_place(right, path, wrong, kind == "heavy")}
     return {}
+
+
+def wanted_place(right, path, wrong, heavy):
+    """The index of the error for a right game with something wrong at a path."""
+    if len(path) == 0 or path[0] == 0:
+        return None
+    before = len(right[1]) if path[0] == 2 else 0
+    if len(path) > 1:
+        return before + path[1]
+    first = first_strange(wrong[path[0]], right[path[0]], 8 if path[0] == 1 else 4)
+    if first is None or path[0] == 1:
+        return first
+    # With another number of players no table has the right length; a heavy game has as many players as weights.
+    if len(wrong[2]) != len(right[2]):
+        return None if heavy else 0
+    return before + first
+
+
+def wrongs(kind, right):
+    """The pairs (path, wrong) for an argument; None in the place of a limit is not wrong."""
+    found = spoiled(right)
+    if kind == "limits":
+        return [(path, wrong) for path, wrong in found if len(path) != 1 or wrong[path[0]] is not None]
+    return found
 
 
 class ArgumentsTest(Raising, unittest.TestCase):
@@ -84,7 +169,7 @@ class ArgumentsTest(Raising, unittest.TestCase):
                         self.spoil(function, right, place, kind)
 
     def spoil(self, function, right, place, kind):
-        for path, wrong in spoiled(right[place]):
+        for path, wrong in wrongs(kind, right[place]):
             arguments = (*right[:place], wrong, *right[place + 1:])
             field = wanted_field(kind, right[place], path, wrong)
             self.assert_raises(ERRORS[kind], field, function, *arguments)
@@ -94,7 +179,8 @@ class ArgumentsTest(Raising, unittest.TestCase):
             if kinds.endswith("value"):
                 with self.subTest(function=function.__name__):
                     self.assertIs(function(*right), True)
-                    for _, wrong in spoiled(right[-1]):
+                    # True stands at one place of a right value too.
+                    for wrong in [wrong for _, wrong in spoiled(right[-1]) if repr(wrong) != repr(right[-1])]:
                         before = repr(wrong)
                         self.assertIs(function(*right[:-1], wrong), False, wrong)
                         self.assertEqual(repr(wrong), before)
@@ -108,7 +194,7 @@ class ArgumentsTest(Raising, unittest.TestCase):
                         self.spoil_two(function, right, names, left, other)
 
     def spoil_two(self, function, right, names, left, other):
-        for path, wrong in spoiled(right[left])[::7]:
+        for path, wrong in wrongs(names[left], right[left])[::7]:
             for second in ("x", None, True, [], -1, (None,)):
                 arguments = [*right]
                 arguments[left] = wrong

@@ -20,6 +20,21 @@ FUNCTIONS = {
     "leaders": {"leader_plan": "lanes demand share", "shows_plan": "lanes demand share value"},
     "parts": {"harmful_roads": "net start goal demand", "best_part": "net start goal demand",
               "closures": "net trips"},
+    "reductions": {"reduction": "net start goal", "shows_reduction": "net start goal value"},
+    "tollsets": {"least_tolls": "net trips routing", "toll_paper": "net trips routing",
+                 "shows_tolls": "net trips routing value", "shows_toll_paper": "net trips routing value",
+                 "fewest_tolls": "net trips routing"},
+    "games": {"player_times": "game state", "loads": "game state", "company": "game state",
+              "game_total": "game state", "game_potential": "game state"},
+    "standings": {"better_steps": "game state", "best_answers": "game state", "stands": "game state",
+                  "standing_states": "game", "walk_to_standing": "game state", "shows_walk": "game state value",
+                  "best_state": "game", "lowest_state": "game", "standing_prices": "game"},
+    "heavies": {"heavy_standing": "weights game", "heavy_ring": "weights game",
+                "shows_heavy_ring": "weights game value"},
+    "owners": {"shared_rest": "net owners", "shows_shared": "net owners value", "owner_totals": "net owners"},
+    "limits": {"limited_rest": "net trips limits", "shows_limited": "net trips limits value"},
+    "wishes": {"wished_rest": "net wishes", "shows_wished": "net wishes value"},
+    "kinds": {"kinds_rest": "net kinds tolls", "shows_kinds": "net kinds tolls value"},
 }
 
 
@@ -95,6 +110,66 @@ class ExamplesTest(unittest.TestCase):
         self.check([harmful_roads(braess, 0, 3, (1, 1)), best_part(braess, 0, 3, (1, 1)),
                     closures(braess, ((0, 3, (1, 1)),))],
                    "[(4,), ((3, 2), (0, 1, 2, 3)), ((2, 1), (2, 1), (2, 1), (2, 1), (3, 2))]")
+
+    def test_reductions(self):
+        from tollroads.reductions import reduction, shows_reduction
+        braess = (4, ((0, 1, 1, 0), (0, 2, 0, 1), (1, 3, 0, 1), (2, 3, 1, 0), (1, 2, 0, 0)))
+        self.check([reduction(braess, 0, 3), reduction((2, ((0, 1, 1, 1), (0, 1, 2, 2))), 0, 1)],
+                   "[None, (('side', 0, 1),)]")
+        self.check(shows_reduction(braess, 0, 3, None), "True")
+
+    def test_tollsets(self):
+        from tollroads.tollsets import fewest_tolls, least_tolls, toll_paper
+        net = (3, ((0, 1, 1, 2), (0, 2, 0, 5), (1, 2, 3, 0)))
+        trips, routing = ((0, 2, (3, 2)),), ((((0, 2), (1, 1)), ((1,), (1, 2))),)
+        self.check([least_tolls(net, trips, routing), fewest_tolls(net, trips, routing)],
+                   "[((1, 2), ((0, 1), (1, 1), (0, 1))), ((1,), ((0, 1), (1, 1), (0, 1)))]")
+        self.check(toll_paper(net, trips, routing)[0], "True")
+
+    def test_games(self):
+        from tollroads.games import company, game_potential, game_total, loads, player_times
+        game = (3, ((0, 1, (1, 2)), (1, 2, (0, 0)), (0, 2, (2, 5))), ((0, 2), (0, 2)))
+        state = ((0, 1), (0, 1))
+        self.check([player_times(game, state), loads(game, state), company(game, state), game_total(game, state),
+                    game_potential(game, state)],
+                   "[(2, 2), (2, 2, 0), ((1,), (0,)), 4, 3]")
+
+    def test_standings(self):
+        from tollroads.standings import best_answers, best_state, standing_prices, standing_states
+        game = (3, ((0, 1, (1, 2)), (1, 2, (0, 0)), (0, 2, (2, 5))), ((0, 2), (0, 2)))
+        self.check([standing_states(game), best_state(game), standing_prices(game), best_answers(game, ((2,), (2,)))],
+                   "[(((0, 1), (0, 1)), ((0, 1), (2,)), ((2,), (0, 1))), (3, ((0, 1), (2,))), ((1, 1), (4, 3)), "
+                   "(((0, 1),), ((0, 1),))]")
+
+    def test_heavies(self):
+        from tollroads.heavies import heavy_ring, heavy_standing
+        tables = ((13, 26, 39), (34, 35, 36), (45, 48, 53), (3, 12, 27), (6, 24, 54), (47, 94, 141))
+        ends = ((0, 1), (1, 3), (0, 2), (2, 3), (1, 2), (0, 3))
+        game = (4, tuple([(*end, table) for end, table in zip(ends, tables)]), ((0, 3), (0, 3)))
+        self.check([heavy_standing((1, 2), game), heavy_ring((1, 2), game) is None], "[(), False]")
+
+    def test_owners(self):
+        from tollroads.owners import owner_totals, shared_rest
+        lanes = (2, ((0, 1, 1, 0), (0, 1, 0, 4)))
+        self.check([shared_rest(lanes, ((0, 1, (6, 1)),)), owner_totals(lanes, ((0, 1, (6, 1)),))],
+                   "[((((0,), (2, 1)), ((1,), (4, 1))),), ((20, 1),)]")
+
+    def test_limits(self):
+        from tollroads.limits import limited_rest
+        lanes = (2, ((0, 1, 1, 0), (0, 1, 0, 4)))
+        self.check([limited_rest(lanes, ((0, 1, (6, 1)),), ((1, 1), None)),
+                    limited_rest(lanes, ((0, 1, (6, 1)),), ((1, 1), (2, 1)))],
+                   "[(((((0,), (1, 1)), ((1,), (5, 1))),), ((3, 1), (0, 1))), None]")
+
+    def test_wishes(self):
+        from tollroads.wishes import wished_rest
+        self.check(wished_rest((2, ((0, 1, 1, 0), (0, 1, 0, 4))), ((0, 1, 10, 1),)),
+                   "(((6, 1),), ((((0,), (4, 1)), ((1,), (2, 1))),))")
+
+    def test_kinds(self):
+        from tollroads.kinds import kinds_rest
+        self.check(kinds_rest((2, ((0, 1, 1, 0), (0, 1, 0, 4))), ((0, 1, (3, 1), 2),), ((3, 1), (0, 1))),
+                   "((((0,), (5, 2)), ((1,), (1, 2))),)")
 
 
 if __name__ == "__main__":
