@@ -10,6 +10,8 @@ PAIR = (3, ((0, 1, (1, 2)), (1, 2, (0, 0)), (0, 2, (2, 5))), ((0, 2), (0, 2)))
 ONE = (2, ((0, 1, (1,)), (0, 1, (2,))), ((0, 1),))
 ALONE = (2, ((0, 1, (7,)),), ((0, 1),))
 FREE = (2, ((0, 1, (0, 0)), (0, 1, (0, 3))), ((0, 1), (0, 1)))
+# Two of three on the first road stand, for 7 together; with one on it all would take 6. Advice can mix both.
+MIXED = (2, ((0, 1, (0, 2, 4)), (0, 1, (3, 3, 3))), ((0, 1),) * 3)
 # Four players, of whom two share start and goal, over a middle road and roads around it.
 CROWD = (4, ((0, 1, (1, 3, 6, 9)), (0, 2, (2, 2, 2, 8)), (1, 2, (0, 1, 1, 1)), (1, 3, (4, 4, 5, 9)),
              (2, 3, (1, 2, 5, 5)), (0, 3, (6, 6, 6, 7))), ((0, 3), (0, 3), (1, 3), (0, 2)))

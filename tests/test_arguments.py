@@ -2,11 +2,15 @@
 
 import unittest
 
-from tests.gamesupport import ONE as SINGLE, PAIR, RESTLESS
-from tests.support import BRAESS, PIGOU, Raising, SMALL, spoiled, zeros
+from tests.gamesupport import ALONE, MIXED, ONE as SINGLE, PAIR, RESTLESS
+from tests.support import BRAESS, PIGOU, Raising, SMALL, is_ratio, spoiled, zeros
+from tollroads.advice import advice_paper, best_advice, shows_advice, shows_advice_paper
 from tollroads.bests import best, best_total, margin_tolls, selfish_price, shows_best
-from tollroads.errors import (BadDemand, BadGame, BadIndex, BadKinds, BadLanes, BadLimits, BadNet, BadNode, BadOwners,
-                              BadRouting, BadShare, BadState, BadTolls, BadTrips, BadWeights, BadWishes)
+from tollroads.bottlenecks import (bottleneck_cost, bottleneck_rest, bottleneck_totals, cost_at, passed_by, queue_at,
+                                   toll_at)
+from tollroads.errors import (BadBottleneck, BadCapacity, BadCost, BadDemand, BadGame, BadIndex, BadKinds, BadLanes,
+                              BadLimits, BadNet, BadNode, BadOwners, BadRouting, BadShare, BadSlots, BadState, BadTime,
+                              BadTolls, BadTrips, BadWeights, BadWishes)
 from tollroads.games import company, game_potential, game_total, loads, player_times
 from tollroads.heavies import heavy_ring, heavy_standing, shows_heavy_ring
 from tollroads.kinds import kinds_rest, shows_kinds
@@ -20,9 +24,11 @@ from tollroads.parts import best_part, closures, harmful_roads
 from tollroads.reductions import reduction, shows_reduction
 from tollroads.rests import cheapest_ways, more_of, rest, rest_costs, rest_total, shows_rest, takings
 from tollroads.routings import flows, potential, times, total
+from tollroads.slots import shows_prices, slot_plan, slot_prices
 from tollroads.standings import (best_answers, best_state, better_steps, lowest_state, shows_walk, standing_prices,
                                  standing_states, stands, walk_to_standing)
 from tollroads.tollsets import fewest_tolls, least_tolls, shows_toll_paper, shows_tolls, toll_paper
+from tollroads.walks import fewest_steps, longest_walk, shows_longest
 from tollroads.wishes import shows_wished, wished_rest
 
 TRIPS = ((0, 2, (3, 2)), (0, 1, (1, 1)))
@@ -45,12 +51,16 @@ LIMITS = ((1, 1), None)
 LIMITED = (((((0,), (1, 1)), ((1,), (5, 1))),), ((3, 1), (0, 1)))
 WISHES = ((0, 2, 9, 2), (0, 1, 10, 1))
 KINDS = ((0, 1, (2, 1), 1), (0, 1, (2, 1), 100))
+SOME = (60, 2, 6, 3, 6)
+PRICES = (0,) * 5 + (3,) + (0,) * 25
+MIXED_PAPER = tuple((player, (1,), (0,), (1, 3)) for player in range(3))
 
 # The class of the error for each kind of argument; "value" stands for the last one of a function `shows_..`.
 ERRORS = {"net": BadNet, "node": BadNode, "trips": BadTrips, "routing": BadRouting, "tolls": BadTolls,
           "index": BadIndex, "demand": BadDemand, "lanes": BadLanes, "share": BadShare, "game": BadGame,
           "heavy": BadGame, "state": BadState, "weights": BadWeights, "owners": BadOwners, "limits": BadLimits,
-          "wishes": BadWishes, "kinds": BadKinds}
+          "wishes": BadWishes, "kinds": BadKinds, "some": BadBottleneck, "time": BadTime, "slots": BadSlots,
+          "capacity": BadCapacity, "cost": BadCost}
 
 CALLS = (
     (ways, "net node node", (SMALL, 0, 2)),
@@ -113,6 +123,23 @@ CALLS = (
     (shows_wished, "net wishes value", (FOUR, ((0, 1, 10, 1),), (((6, 1),), ((((0,), (4, 1)), ((1,), (2, 1))),)))),
     (kinds_rest, "net kinds tolls", (FOUR, KINDS, ((3, 1), (0, 1)))),
     (shows_kinds, "net kinds tolls value", (FOUR, KINDS, ((3, 1), (0, 1)), ((((1,), (2, 1)),), (((0,), (2, 1)),)))),
+    (bottleneck_rest, "some", (SOME,)),
+    (bottleneck_cost, "some", (SOME,)),
+    (bottleneck_totals, "some", (SOME,)),
+    (queue_at, "some time", (SOME, (-3, 2))),
+    (passed_by, "some time", (SOME, (-3, 2))),
+    (cost_at, "some time", (SOME, (-3, 2))),
+    (toll_at, "some time", (SOME, (-3, 2))),
+    (slot_plan, "slots capacity cost cost", ((5, 7), 1, 1, 1)),
+    (slot_prices, "slots capacity cost cost", ((5,), 2, 1, 1)),
+    (shows_prices, "slots capacity cost cost value", ((5, 5), 1, 4, 3, PRICES)),
+    (fewest_steps, "game state", (SINGLE, ((1,),))),
+    (longest_walk, "game", (SINGLE,)),
+    (shows_longest, "game value", (SINGLE, (((1,),), ((0, (0,)),)))),
+    (best_advice, "game", (SINGLE,)),
+    (advice_paper, "game", (ALONE,)),
+    (shows_advice, "game value", (SINGLE, ((1, 1), ((((0,),), (1, 1)),)))),
+    (shows_advice_paper, "game value", (MIXED, MIXED_PAPER)),
 )
 
 
@@ -153,10 +180,12 @@ def wanted_place(right, path, wrong, heavy):
 
 
 def wrongs(kind, right):
-    """The pairs (path, wrong) for an argument; None in the place of a limit is not wrong."""
+    """The pairs (path, wrong) for an argument; None in the place of a limit is not wrong, nor is any other time."""
     found = spoiled(right)
     if kind == "limits":
         return [(path, wrong) for path, wrong in found if len(path) != 1 or wrong[path[0]] is not None]
+    if kind == "time":
+        return [(path, wrong) for path, wrong in found if not is_ratio(wrong)]
     return found
 
 

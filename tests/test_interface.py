@@ -35,6 +35,14 @@ FUNCTIONS = {
     "limits": {"limited_rest": "net trips limits", "shows_limited": "net trips limits value"},
     "wishes": {"wished_rest": "net wishes", "shows_wished": "net wishes value"},
     "kinds": {"kinds_rest": "net kinds tolls", "shows_kinds": "net kinds tolls value"},
+    "bottlenecks": {"bottleneck_rest": "some", "bottleneck_cost": "some", "queue_at": "some time",
+                    "passed_by": "some time", "cost_at": "some time", "toll_at": "some time",
+                    "bottleneck_totals": "some"},
+    "slots": {"slot_plan": "wishes capacity early late", "slot_prices": "wishes capacity early late",
+              "shows_prices": "wishes capacity early late value"},
+    "walks": {"fewest_steps": "game state", "longest_walk": "game", "shows_longest": "game value"},
+    "advice": {"best_advice": "game", "advice_paper": "game", "shows_advice": "game value",
+               "shows_advice_paper": "game value"},
 }
 
 
@@ -170,6 +178,31 @@ class ExamplesTest(unittest.TestCase):
         from tollroads.kinds import kinds_rest
         self.check(kinds_rest((2, ((0, 1, 1, 0), (0, 1, 0, 4))), ((0, 1, (3, 1), 2),), ((3, 1), (0, 1))),
                    "((((0,), (5, 2)), ((1,), (1, 2))),)")
+
+    def test_bottlenecks(self):
+        from tollroads.bottlenecks import (bottleneck_cost, bottleneck_rest, bottleneck_totals, cost_at, passed_by,
+                                           queue_at, toll_at)
+        some = (60, 2, 6, 3, 6)
+        self.check([bottleneck_rest(some), bottleneck_cost(some), queue_at(some, (0, 1)), passed_by(some, (0, 1)),
+                    cost_at(some, (-30, 1)), toll_at(some, (5, 1)), bottleneck_totals(some)],
+                   "[((-20, 1), (-10, 1), (10, 1), (4, 1), (1, 1)), (60, 1), (10, 1), (40, 1), (90, 1), (30, 1), "
+                   "((3600, 1), (1800, 1))]")
+
+    def test_slots(self):
+        from tollroads.slots import shows_prices, slot_plan
+        self.check([slot_plan((5, 7), 1, 1, 1), shows_prices((5, 5), 1, 1, 1, (0,) * 5 + (1,) + (0,) * 25)],
+                   "[(0, (5, 7)), True]")
+
+    def test_walks(self):
+        from tollroads.walks import fewest_steps, longest_walk
+        game = (2, ((0, 1, (1,)), (0, 1, (2,))), ((0, 1),))
+        self.check([fewest_steps(game, ((1,),)), longest_walk(game)],
+                   "[(1, ((0, (0,)),)), (((1,),), ((0, (0,)),))]")
+
+    def test_advice(self):
+        from tollroads.advice import best_advice
+        game = (2, ((0, 1, (1,)), (0, 1, (2,))), ((0, 1),))
+        self.check(best_advice(game), "((1, 1), ((((0,),), (1, 1)),))")
 
 
 if __name__ == "__main__":

@@ -4,7 +4,7 @@ from tollroads.errors import BadLanes
 from tollroads.nets import is_line
 from tollroads.ratios import ZERO, add, add_all, less, ratio
 from tollroads.roadflows import time_on
-from tollroads.shapes import is_amount, is_ratio, is_row
+from tollroads.shapes import are_amounts, is_ratio, is_row
 from tollroads.spreads import least_spread
 from tollroads.trips import check_demand
 
@@ -42,9 +42,7 @@ def lane_times(lanes, flows):
 
 def are_flows(lanes, amount, value):
     """Tell whether a value is a tuple of ratios from 0 on, one for each lane, with this sum."""
-    if not (is_row(value, len(lanes), len(lanes)) and all([is_amount(flow) for flow in value])):
-        return False
-    return add_all(value) == amount
+    return are_amounts(value, len(lanes)) and add_all(value) == amount
 
 
 def least_ratio(rows):

@@ -6,7 +6,7 @@ from tollroads.errors import BadLimits
 from tollroads.nets import check_few
 from tollroads.ratios import ZERO, less, on_one_bottom, ratio
 from tollroads.roadflows import road_flows
-from tollroads.shapes import is_amount, is_demand, is_row
+from tollroads.shapes import are_amounts, is_demand, is_row
 from tollroads.spreads import overlap, way_cost
 from tollroads.trips import demands_of, is_routing, trip_tables
 
@@ -81,8 +81,7 @@ def keeps_to(flow, limit, wait):
 
 def are_waits(net, limits, routing, value):
     """Tell whether a value is a tuple of waits that fit to the limits and to the flows of a routing."""
-    many = len(net[1])
-    if not (is_row(value, many, many) and all([is_amount(wait) for wait in value])):
+    if not are_amounts(value, len(net[1])):
         return False
     rows = list(zip(road_flows(net, routing), limits, value))
     return all([keeps_to(flow, limit, wait) for flow, limit, wait in rows])

@@ -1,6 +1,6 @@
 """Nets of roads and the ways in them."""
 
-from tollroads.errors import BadNet, BadNode, NoWay, TooMany
+from tollroads.errors import BadIndex, BadNet, BadNode, NoWay, TooMany
 from tollroads.shapes import is_integer, is_row, is_whole
 
 MOST_WAYS = 20
@@ -35,6 +35,11 @@ def check_net(net):
 def check_joint(net, start, goal):
     if not is_joint(net[0], start, goal):
         raise BadNode("two unlike nodes are needed")
+
+
+def check_index(rows, value):
+    if not is_whole(value, 0, len(rows) - 1):
+        raise BadIndex("nothing has this index")
 
 
 def check_few(tables):

@@ -24,23 +24,36 @@ def is_player(game, value):
     return is_row(value, 2, 2) and is_linked(game, value[0], value[1])
 
 
+def has_form(value, fewest, most):
+    """Tell whether a value is a triple of a size, 1 to 8 things for roads and `fewest` to `most` things for players."""
+    if not (is_row(value, 3, 3) and is_whole(value[0], 2, 6)):
+        return False
+    return is_row(value[1], 1, 8) and is_row(value[2], fewest, most)
+
+
+def first_bad(game, right_roads):
+    """Return the index of the first bad road or player, roads counted first, None if all are right.
+
+    It is told for each road whether it is right.
+    """
+    if False in right_roads:
+        return right_roads.index(False)
+    for index, player in enumerate(game[2]):
+        if not is_player(game, player):
+            return len(game[1]) + index
+    return None
+
+
 def check_form(game, fewest, most):
-    """Raise BadGame unless a value is a triple of a size, roads and from `fewest` to `most` players by their number."""
-    if not (is_row(game, 3, 3) and is_whole(game[0], 2, 6) and is_row(game[1], 1, 8)):
-        raise BadGame(None)
-    if not is_row(game[2], fewest, most):
+    if not has_form(game, fewest, most):
         raise BadGame(None)
 
 
 def check_inside(game, entries):
     """Raise BadGame if a road, with a table of so many entries, or a player is bad."""
-    size, roads, players = game
-    for index, road in enumerate(roads):
-        if not is_played_road(size, entries, road):
-            raise BadGame(index)
-    for index, player in enumerate(players):
-        if not is_player(game, player):
-            raise BadGame(len(roads) + index)
+    index = first_bad(game, [is_played_road(game[0], entries, road) for road in game[1]])
+    if index is not None:
+        raise BadGame(index)
 
 
 def plain_play(game):
@@ -63,9 +76,7 @@ def bounded_play(game):
 def play_at(game, state):
     """Return the same play, or raise the error of the leftmost of both arguments."""
     play = plain_play(game)
-    if not play.is_state(state):
-        raise BadState("one way for each player is needed")
-    play.check_few()
+    play.check_state(state)
     return play
 
 
@@ -97,6 +108,12 @@ class Play:
         many = len(self.tables)
         return is_row(value, many, many) and all([is_way(table, way) for table, way in zip(self.tables, value)])
 
+    def check_state(self, value):
+        """Raise BadState if a value is no state, and then TooMany if a bound is passed."""
+        if not self.is_state(value):
+            raise BadState("one way for each player is needed")
+        self.check_few()
+
     def states(self):
         """Return the ascending list of all states."""
         found = [()]
@@ -116,6 +133,10 @@ class Play:
         """Return the time of a player in a state."""
         counts = self.counts(state)
         return sum([self.roads[road][2][counts[road] - 1] for road in state[player]])
+
+    def more_by(self, state, player, way):
+        """Return how much more time a player takes by another way while the others stay."""
+        return self.time_of(moved(state, player, way), player) - self.time_of(state, player)
 
     def times_by_way(self, state, player):
         """Return the list of the times of all ways of a player, in their order, while the others stay."""

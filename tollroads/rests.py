@@ -9,11 +9,11 @@ from tollroads.equilibria import (
     routing_total,
     toll_costs,
 )
-from tollroads.errors import BadIndex, BadTolls
-from tollroads.nets import check_few
+from tollroads.errors import BadTolls
+from tollroads.nets import check_few, check_index
 from tollroads.ratios import add_products
 from tollroads.roadflows import road_flows
-from tollroads.shapes import is_amount, is_row, is_whole
+from tollroads.shapes import is_amount, is_row
 from tollroads.trips import check_demand, demands_of, is_routing, trip_tables
 
 
@@ -75,8 +75,7 @@ def takings(net, trips, tolls):
 def more_of(net, trips, index, demand):
     """Return the tuple of the rest costs without tolls if the trip with this index has that demand instead."""
     tables = trip_tables(net, trips)
-    if not is_whole(index, 0, len(trips) - 1):
-        raise BadIndex("no trip has this index")
+    check_index(trips, index)
     check_demand(demand)
     check_few(tables)
     demands = demands_of(trips)

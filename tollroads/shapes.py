@@ -34,3 +34,13 @@ def is_amount(value):
 def is_demand(value):
     """Tell whether a value is a ratio as the demand of a trip is."""
     return is_ratio(value) and 0 < value[0] <= 1000 and value[1] <= 100
+
+
+def are_amounts(value, many):
+    """Tell whether a value is a tuple of so many ratios from 0 on."""
+    return is_row(value, many, many) and all([is_amount(part) for part in value])
+
+
+def is_ascending(rows):
+    """Tell whether each of the rows is greater than the one before it."""
+    return all([earlier < later for earlier, later in zip(rows, rows[1:])])

@@ -58,9 +58,8 @@ def is_better_step(play, state, value):
     return is_way(play.tables[player], way) and way in play.better_ways(state, player)
 
 
-def shows_walk(game, state, value):
-    """Tell whether a value is a tuple as `walk_to_standing` may return."""
-    play = play_at(game, state)
+def is_walk(play, state, value):
+    """Tell whether a value is a tuple of such pairs that lead, one behind another, to a state that stands."""
     if not isinstance(value, tuple):
         return False
     for step in value:
@@ -69,6 +68,11 @@ def shows_walk(game, state, value):
         player, way = step
         state = moved(state, player, way)
     return len(play.better_steps(state)) == 0
+
+
+def shows_walk(game, state, value):
+    """Tell whether a value is a tuple as `walk_to_standing` may return."""
+    return is_walk(play_at(game, state), state, value)
 
 
 def best_state(game):

@@ -8,7 +8,7 @@ from tollroads.errors import TooMany
 from tollroads.nets import check_few, is_way
 from tollroads.ratios import ZERO, add, add_all, add_products, divide, less, multiply, on_one_bottom, subtract
 from tollroads.roadflows import road_flows, road_times
-from tollroads.shapes import is_amount, is_ratio, is_row, is_whole
+from tollroads.shapes import are_amounts, is_ascending, is_ratio, is_row, is_whole
 from tollroads.spreads import way_cost
 from tollroads.trips import check_routing, demands_of, trip_tables
 
@@ -86,8 +86,7 @@ class Case:
 
     def are_tolls(self, value):
         """Tell whether a value is a tuple of tolls with which the routing is at rest."""
-        many = len(self.flows)
-        if not (is_row(value, many, many) and all([is_amount(toll) for toll in value])):
+        if not are_amounts(value, len(self.flows)):
             return False
         return costs_nothing_less([add(time, toll) for time, toll in zip(self.times, value)], self.tables, self.routing)
 
@@ -104,7 +103,7 @@ class Case:
         """Tell whether a value is a tuple of changes in ascending order, those of each trip with the sum 0."""
         if not (isinstance(value, tuple) and all([self.is_change(change) for change in value])):
             return False
-        if any([later[:2] <= earlier[:2] for earlier, later in zip(value, value[1:])]):
+        if not is_ascending([change[:2] for change in value]):
             return False
         sums = [add_all([size for place, _, size in value if place == trip]) for trip in range(len(self.tables))]
         return all([whole == ZERO for whole in sums])

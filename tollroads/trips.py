@@ -3,7 +3,7 @@
 from tollroads.errors import BadDemand, BadRouting, BadTrips
 from tollroads.nets import all_ways, check_few, check_net, is_linked, is_way
 from tollroads.ratios import add_all
-from tollroads.shapes import is_amount, is_demand, is_row
+from tollroads.shapes import is_amount, is_ascending, is_demand, is_row
 
 
 def is_trip(net, value):
@@ -73,10 +73,7 @@ def is_part(table, demand, value):
     """Tell whether a value is what a routing has for one trip."""
     if not (isinstance(value, tuple) and all([is_used_way(table, pair) for pair in value])):
         return False
-    used = [pair[0] for pair in value]
-    if any([later <= earlier for earlier, later in zip(used, used[1:])]):
-        return False
-    return add_all([pair[1] for pair in value]) == demand
+    return is_ascending([way for way, _ in value]) and add_all([amount for _, amount in value]) == demand
 
 
 def is_routing(tables, demands, value):

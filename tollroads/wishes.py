@@ -5,7 +5,7 @@ from tollroads.errors import BadWishes
 from tollroads.nets import check_few, check_net, is_linked
 from tollroads.ratios import ZERO, add_all, multiply, on_one_bottom, subtract
 from tollroads.roadflows import road_flows, road_times
-from tollroads.shapes import is_amount, is_row, is_whole
+from tollroads.shapes import are_amounts, is_row, is_whole
 from tollroads.spreads import least_spread
 from tollroads.trips import first_wrong, is_routing, tables_of
 
@@ -57,10 +57,10 @@ def wished_demand(wish, cost):
 def shows_wished(net, wishes, value):
     """Tell whether a value is a pair as `wished_rest` may return."""
     tables = wish_tables(net, wishes)
-    if not (is_row(value, 2, 2) and is_row(value[0], len(wishes), len(wishes))):
+    if not (is_row(value, 2, 2) and are_amounts(value[0], len(wishes))):
         return False
     demands, routing = value
-    if not (all([is_amount(demand) for demand in demands]) and is_routing(tables, demands, routing)):
+    if not is_routing(tables, demands, routing):
         return False
     times = road_times(net, road_flows(net, routing))
     wanted = [wished_demand(wish, cost) for wish, cost in zip(wishes, lowest_costs(times, tables))]
