@@ -4,7 +4,7 @@ import itertools
 import random
 from functools import lru_cache
 
-from tests.support import ways_of
+from tests.support import INTEGER_WRONGS, ways_of
 
 PAIR = (3, ((0, 1, (1, 2)), (1, 2, (0, 0)), (0, 2, (2, 5))), ((0, 2), (0, 2)))
 ONE = (2, ((0, 1, (1,)), (0, 1, (2,))), ((0, 1),))
@@ -44,6 +44,16 @@ NINE_WAYS = chain_game((3, 3), ((0, 2), (0, 1)))
 THOUSAND_STATES = (4, tuple((*ends, (1, 2, 3, 4)) for ends in ((0, 1),) * 4 + ((1, 2),) * 2 + ((3, 0), (3, 1))),
                    ((3, 1), (3, 1), (3, 1), (0, 2)))
 MORE_STATES = chain_game((2, 2, 2), ((0, 3), (0, 3), (0, 2), (1, 3)))
+# Pairs of the index of the error and a bad game, and bad states of PAIR.
+BAD_GAMES = ((None, None), (None, [*PAIR]), (None, (7, *PAIR[1:])), (0, (3, ("x",), ("x",))),
+             (2, (3, (*PAIR[1][:2], (0, 2, (5, 2))), PAIR[2])), (0, (3, PAIR[1], ((0, 2),))),
+             (3, (3, PAIR[1], ((2, 0), (0, 2)))), (4, (3, PAIR[1], ((0, 2), (2, 2)))))
+BAD_STATES = (*INTEGER_WRONGS, ((2,),), ((2,), (2,), (2,)), [(2,), (2,)], ((2,), (1,)), ((2,), (True,)), ((2,), [2]),
+              ((0, True), (2,)), ((2,), None))
+# Triples of a bound and a game and one of its states that are beyond it.
+TOO_LARGE = ((8, NINE_WAYS, ((0, 3), (1,))),
+             (8, chain_game((4, 3), ((0, 1),) * 3 + ((0, 2),)), ((0,), (0,), (0,), (0, 4))),
+             (1000, MORE_STATES, ((0, 2, 4), (0, 2, 4), (0, 2), (2, 4))), (1000, lanes_game(6, 4), ((0,),) * 4))
 
 
 def plain(game):

@@ -5,7 +5,7 @@ import unittest
 from fractions import Fraction
 from functools import lru_cache
 
-from tests.gamesupport import (ALONE, FREE, MIXED, MORE_STATES, NINE_WAYS, ONE, PAIR, changed, lanes_game, plain,
+from tests.gamesupport import (ALONE, BAD_GAMES, FREE, MIXED, ONE, PAIR, TOO_LARGE, changed, lanes_game, plain,
                                sample_game, sample_games, standing_of, states_of, tables_of, times_of)
 from tests.linear import greatest
 from tests.support import INTEGER_WRONGS, Raising, is_ratio, number, ratio
@@ -172,7 +172,8 @@ class BestTest(Raising, unittest.TestCase):
         both = {}
         for state, chance in (*advice, *other):
             both[state] = both.get(state, 0) + number(chance) / 2
-        self.assertIs(shows_advice(MIXED, ((20, 3), tuple((state, ratio(both[state])) for state in sorted(both)))), True)
+        value = ((20, 3), tuple((state, ratio(both[state])) for state in sorted(both)))
+        self.assertIs(shows_advice(MIXED, value), True)
         # More often one alone on the first road: then it would be worth leaving the second one.
         for chance in (Fraction(1, 4), Fraction(5, 12)):
             rest = ratio((1 - chance) / 2)
@@ -248,9 +249,11 @@ class ShowsAdviceTest(Raising, unittest.TestCase):
                       ([1, 1], right[1]), ((True, 1), right[1]), ((1, True), right[1]), ((2, 2), right[1]),
                       ((-1, -1), right[1]), (right[0], None), (right[0], [*right[1]]), (right[0], ([((0,),), (1, 1)],)),
                       (right[0], (([(0,)], (1, 1)),)), (right[0], ((([0],), (1, 1)),)),
-                      (right[0], ((((False,),), (1, 1)),)), (right[0], ((((0,),), 1),)), (right[0], ((((0,),), (2, 2)),)),
+                      (right[0], ((((False,),), (1, 1)),)), (right[0], ((((0,),), 1),)),
+                      (right[0], ((((0,),), (2, 2)),)),
                       (right[0], ((((0,),), (True, 1)),)), (right[0], ((((0,),), [1, 1]),)),
-                      (right[0], ((((0,),), (1, 1), 0),)), (right[0], ((((0,),), (1, 1)), (((1,),), (0, 1)))),
+                      (right[0], ((((0,),), (1, 1), 0),)),
+                      (right[0], ((((0,),),),)), (right[0], ((((0,),), (1, 1)), (((1,),), (0, 1)))),
                       (right[0], ((((0,),), (2, 1)), (((1,),), (-1, 1)))), (right[0], (((0,), (1, 1)),)),
                       (right[0], ((((0,), (0,)), (1, 1)),)), (right[0], (None,)), (right[0], ({},)), (right[0], ())):
             self.assertIs(shows_advice(ONE, value), False, value)
@@ -290,12 +293,24 @@ class ShowsPaperTest(Raising, unittest.TestCase):
             self.assertIs(shows_advice_paper(game, ((0, (1,), (0,), size),)), True)
             self.assertIs(shows_advice_paper(game, ((0, (0,), (1,), size), (0, (1,), (0,), size))), False)
         self.assertIs(shows_advice_paper(game, ()), True)
+        # The same exchange may not stand there twice, neither with two ratios nor with one.
+        for sizes in (((1, 3), (2, 3)), ((2, 3), (1, 3)), ((1, 2), (1, 2))):
+            self.assertIs(shows_advice_paper(game, tuple((0, (1,), (0,), size) for size in sizes)), False)
+
+    def test_several_exchanges_of_one_way(self):
+        # A way may be left for each of two cheaper ones.
+        game = (2, tuple((0, 1, (cost,)) for cost in (1, 3, 9)), ((0, 1),))
+        rows = ((0, (1,), (0,), (1, 2)), (0, (2,), (0,), (2, 1)), (0, (2,), (1,), (1, 3)))
+        for value in (rows, rows[1:], rows[:2], rows[::2]):
+            self.assertIs(shows_advice_paper(game, value), True)
+            self.assertIs(shows_advice_paper(game, value[::-1]), False)
 
     def test_values_of_all_kinds(self):
         right = ((0, (1,), (0,), (1, 2)),)
         self.assertIs(shows_advice_paper(ONE, right), True)
         row = right[0]
-        for value in (*INTEGER_WRONGS, [*right], row, {0: row}, ([*row],), (row[:3],), ((*row, 0),), (row, row), (None,),
+        for value in (*INTEGER_WRONGS, [*right], row, {0: row}, ([*row],), (row[:3],), ((*row, 0),), (row, row),
+                      (None,),
                       ((False, *row[1:]),), ((1, *row[1:]),), ((-1, *row[1:]),), (("0", *row[1:]),), (([], *row[1:]),),
                       ((0, [1], (0,), (1, 2)),), ((0, (True,), (0,), (1, 2)),), ((0, (1,), (False,), (1, 2)),),
                       ((0, (1,), [0], (1, 2)),), ((0, (1,), (1,), (1, 2)),), ((0, (1,), (2,), (1, 2)),),
@@ -309,16 +324,13 @@ class ShowsPaperTest(Raising, unittest.TestCase):
 class WrongTest(Raising, unittest.TestCase):
     def test_games(self):
         for function in ALL:
-            for index, game in ((None, None), (None, [*PAIR]), (None, (7, *PAIR[1:])), (0, (3, ("x",), ("x",))),
-                                (2, (3, (*PAIR[1][:2], (0, 2, (5, 2))), PAIR[2])), (0, (3, PAIR[1], ((0, 2),))),
-                                (3, (3, PAIR[1], ((2, 0), (0, 2)))), (4, (3, PAIR[1], ((0, 2), (2, 2))))):
+            for index, game in BAD_GAMES:
                 self.assert_raises(BadGame, {"index": index}, call, function, game)
 
     def test_the_other_bounds_come_first(self):
         for function in ALL:
-            self.assert_raises(TooMany, {"most": 8}, call, function, NINE_WAYS)
-            self.assert_raises(TooMany, {"most": 1000}, call, function, MORE_STATES)
-            self.assert_raises(TooMany, {"most": 1000}, call, function, lanes_game(6, 4))
+            for most, game, _ in TOO_LARGE:
+                self.assert_raises(TooMany, {"most": most}, call, function, game)
             self.assert_raises(TooMany, {"most": 20}, call, function, lanes_game(5, 2))
             self.assert_raises(TooMany, {"most": 20}, call, function, lanes_game(3, 3))
             call(function, lanes_game(8, 1))

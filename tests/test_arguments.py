@@ -8,10 +8,13 @@ from tollroads.advice import advice_paper, best_advice, shows_advice, shows_advi
 from tollroads.bests import best, best_total, margin_tolls, selfish_price, shows_best
 from tollroads.bottlenecks import (bottleneck_cost, bottleneck_rest, bottleneck_totals, cost_at, passed_by, queue_at,
                                    toll_at)
-from tollroads.errors import (BadBottleneck, BadCapacity, BadCost, BadDemand, BadGame, BadIndex, BadKinds, BadLanes,
-                              BadLimits, BadNet, BadNode, BadOwners, BadRouting, BadShare, BadSlots, BadState, BadTime,
-                              BadTolls, BadTrips, BadWeights, BadWishes)
+from tollroads.buildings import building_prices, building_states, cheapest_building, shares
+from tollroads.errors import (BadBottleneck, BadBudget, BadBuilding, BadCapacity, BadCost, BadDemand, BadGame, BadIndex,
+                              BadKinds, BadLanes, BadLimits, BadNet, BadNode, BadOwners, BadRouting, BadShare,
+                              BadSlope, BadSlots, BadState, BadTime, BadTolls, BadTrips, BadWay, BadWeights,
+                              BadWishes)
 from tollroads.games import company, game_potential, game_total, loads, player_times
+from tollroads.gametext import write_game
 from tollroads.heavies import heavy_ring, heavy_standing, shows_heavy_ring
 from tollroads.kinds import kinds_rest, shows_kinds
 from tollroads.lanes import lane_corners, lane_rest, shows_lane_rest
@@ -27,8 +30,10 @@ from tollroads.routings import flows, potential, times, total
 from tollroads.slots import shows_prices, slot_plan, slot_prices
 from tollroads.standings import (best_answers, best_state, better_steps, lowest_state, shows_walk, standing_prices,
                                  standing_states, stands, walk_to_standing)
+from tollroads.statetolls import shows_state_paper, shows_state_tolls, state_paper, state_tolls
 from tollroads.tollsets import fewest_tolls, least_tolls, shows_toll_paper, shows_tolls, toll_paper
 from tollroads.walks import fewest_steps, longest_walk, shows_longest
+from tollroads.widenings import amount_range, best_widening, widened
 from tollroads.wishes import shows_wished, wished_rest
 
 TRIPS = ((0, 2, (3, 2)), (0, 1, (1, 1)))
@@ -53,6 +58,9 @@ WISHES = ((0, 2, 9, 2), (0, 1, 10, 1))
 KINDS = ((0, 1, (2, 1), 1), (0, 1, (2, 1), 100))
 SOME = (60, 2, 6, 3, 6)
 PRICES = (0,) * 5 + (3,) + (0,) * 25
+SHED = (3, ((0, 1, 6), (1, 2, 0), (0, 2, 9)), ((0, 2), (0, 2)))
+# One player of two saves 2 on the other road; a toll of 2 there, which the first player pays, stops that.
+TOLLED = (3, ((0, 1, (1, 4)), (0, 1, (6, 6)), (1, 2, (0, 0))), ((0, 1), (0, 2)))
 MIXED_PAPER = tuple((player, (1,), (0,), (1, 3)) for player in range(3))
 
 # The class of the error for each kind of argument; "value" stands for the last one of a function `shows_..`.
@@ -60,7 +68,8 @@ ERRORS = {"net": BadNet, "node": BadNode, "trips": BadTrips, "routing": BadRouti
           "index": BadIndex, "demand": BadDemand, "lanes": BadLanes, "share": BadShare, "game": BadGame,
           "heavy": BadGame, "state": BadState, "weights": BadWeights, "owners": BadOwners, "limits": BadLimits,
           "wishes": BadWishes, "kinds": BadKinds, "some": BadBottleneck, "time": BadTime, "slots": BadSlots,
-          "capacity": BadCapacity, "cost": BadCost}
+          "capacity": BadCapacity, "cost": BadCost, "building": BadBuilding, "slope": BadSlope, "budget": BadBudget,
+          "way": BadWay}
 
 CALLS = (
     (ways, "net node node", (SMALL, 0, 2)),
@@ -140,6 +149,18 @@ CALLS = (
     (advice_paper, "game", (ALONE,)),
     (shows_advice, "game value", (SINGLE, ((1, 1), ((((0,),), (1, 1)),)))),
     (shows_advice_paper, "game value", (MIXED, MIXED_PAPER)),
+    (state_tolls, "game state", (TOLLED, ((0,), (1, 2)))),
+    (state_paper, "game state", (TOLLED, ((0,), (1, 2)))),
+    (shows_state_tolls, "game state value", (TOLLED, ((0,), (1, 2)), ((2, 1), ((2, 1), (0, 1), (0, 1))))),
+    (shows_state_paper, "game state value", (TOLLED, ((0,), (1, 2)), (True, ((1, (0, 2), (1, 1)),)))),
+    (shares, "building state", (SHED, STATE)),
+    (building_states, "building", (SHED,)),
+    (building_prices, "building", (SHED,)),
+    (cheapest_building, "building", (SHED,)),
+    (widened, "net index slope", (SMALL, 2, 1)),
+    (best_widening, "net trips budget", (SMALL, TRIPS, 2)),
+    (amount_range, "net trips index way", (SMALL, TRIPS, 0, (0, 2))),
+    (write_game, "game", (PAIR,)),
 )
 
 
@@ -158,7 +179,7 @@ def wanted_field(kind, right, path, wrong):
         return {"index": path[1] if len(path) > 1 else first_strange(wrong[1], right[1], 10)}
     if kind in ("trips", "lanes", "owners", "wishes", "kinds"):
         return {"index": path[0] if path else first_strange(wrong, right, 8 if kind == "lanes" else 3)}
-    if kind in ("game", "heavy"):
+    if kind in ("game", "heavy", "building"):
         return {"index": wanted_place(right, path, wrong, kind == "heavy")}
     return {}
 
@@ -173,8 +194,9 @@ def wanted_place(right, path, wrong, heavy):
     first = first_strange(wrong[path[0]], right[path[0]], 8 if path[0] == 1 else 4)
     if first is None or path[0] == 1:
         return first
-    # With another number of players no table has the right length; a heavy game has as many players as weights.
-    if len(wrong[2]) != len(right[2]):
+    # With another number of players no table has the right length, where there are tables; a heavy game has as many
+    # players as weights.
+    if len(wrong[2]) != len(right[2]) and isinstance(right[1][0][2], tuple):
         return None if heavy else 0
     return before + first
 

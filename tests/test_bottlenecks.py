@@ -11,7 +11,8 @@ from tollroads.errors import BadBottleneck, BadTime
 
 SOME = (60, 2, 6, 3, 6)
 # Early and late alike, early just below waiting, one and a thousand travellers, everything smallest or largest.
-KNOWN = (SOME, (60, 2, 6, 3, 3), (1, 1, 2, 1, 1), (1, 100, 100, 1, 100), (1000, 1, 2, 1, 100), (1000, 100, 100, 99, 100),
+KNOWN = (SOME, (60, 2, 6, 3, 3), (1, 1, 2, 1, 1), (1, 100, 100, 1, 100), (1000, 1, 2, 1, 100),
+         (1000, 100, 100, 99, 100),
          (1, 1, 100, 99, 1), (7, 3, 5, 4, 2), (1000, 1, 100, 1, 1), (999, 7, 13, 12, 13))
 OF_ONE = (bottleneck_rest, bottleneck_cost, bottleneck_totals)
 OF_BOTH = (queue_at, passed_by, cost_at, toll_at)
@@ -63,8 +64,8 @@ class Rush:
         between = [(one + other) / 2 for one, other in zip(corners, corners[1:])]
         thirds = [(2 * one + other) / 3 for one, other in zip(corners, corners[1:])]
         near = [corner + step for corner in corners for step in (Fraction(-1, 997), Fraction(1, 997))]
-        return [*corners, *between, *thirds, *near, Fraction(-1), Fraction(1), self.first - 5, self.last + Fraction(7, 3),
-                Fraction(-10 ** 6), Fraction(10 ** 6 + 1, 10 ** 7 + 1), Fraction(10 ** 30)]
+        far = [self.first - 5, self.last + Fraction(7, 3), Fraction(-10 ** 6), Fraction(10 ** 30)]
+        return [*corners, *between, *thirds, *near, *far, Fraction(-1), Fraction(1), Fraction(10 ** 6 + 1, 10 ** 7 + 1)]
 
 
 class RushTest(Raising, unittest.TestCase):

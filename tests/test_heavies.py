@@ -5,7 +5,7 @@ import random
 import unittest
 
 from tests.gamesupport import (ALONE, CROWD, MORE_STATES, NINE_WAYS, PAIR, RESTLESS, THOUSAND_STATES, better_steps_of,
-                               chain_game, changed, lanes_game, plain, sample_heavy, standing_of, states_of, times_of)
+                               chain_game, changed, lanes_game, plain, sample_heavy, standing_of, states_of)
 from tests.support import INTEGER_WRONGS, Raising
 from tollroads.errors import BadGame, BadWeights, TooMany
 from tollroads.heavies import heavy_ring, heavy_standing, shows_heavy_ring

@@ -43,7 +43,16 @@ FUNCTIONS = {
     "walks": {"fewest_steps": "game state", "longest_walk": "game", "shows_longest": "game value"},
     "advice": {"best_advice": "game", "advice_paper": "game", "shows_advice": "game value",
                "shows_advice_paper": "game value"},
+    "statetolls": {"state_tolls": "game state", "shows_state_tolls": "game state value", "state_paper": "game state",
+                   "shows_state_paper": "game state value"},
+    "buildings": {"shares": "building state", "building_states": "building", "building_prices": "building",
+                  "cheapest_building": "building"},
+    "widenings": {"widened": "net index slope", "best_widening": "net trips budget",
+                  "amount_range": "net trips index way"},
+    "gametext": {"write_game": "game", "read_game": "text"},
 }
+TOWN = {"put": "name trip", "drop": "name", "get": "name", "names": "", "toll": "index size", "undo": "", "costs": "",
+        "income": ""}
 
 
 class InterfaceTest(unittest.TestCase):
@@ -55,6 +64,16 @@ class InterfaceTest(unittest.TestCase):
                     function = getattr(module, name)
                     self.assertEqual(function.__module__, "tollroads." + file)
                     self.assertEqual(list(inspect.signature(function).parameters), arguments.split())
+
+    def test_the_methods_of_a_town(self):
+        town = importlib.import_module("tollroads.town").Town
+        self.assertEqual(town.__module__, "tollroads.town")
+        self.assertEqual(list(inspect.signature(town).parameters), ["net"])
+        for name, arguments in TOWN.items():
+            with self.subTest(name=name):
+                # Each method stands in the class itself.
+                self.assertIn(name, vars(town))
+                self.assertEqual(list(inspect.signature(getattr(town, name)).parameters), ["self", *arguments.split()])
 
 
 class ExamplesTest(unittest.TestCase):
@@ -203,6 +222,39 @@ class ExamplesTest(unittest.TestCase):
         from tollroads.advice import best_advice
         game = (2, ((0, 1, (1,)), (0, 1, (2,))), ((0, 1),))
         self.check(best_advice(game), "((1, 1), ((((0,),), (1, 1)),))")
+
+    def test_statetolls(self):
+        from tollroads.statetolls import state_paper, state_tolls
+        game = (2, ((0, 1, (1,)), (0, 1, (2,))), ((0, 1),))
+        self.check([state_tolls(game, ((1,),)), state_paper(game, ((0,),))],
+                   "[((0, 1), ((1, 1), (0, 1))), (True, ())]")
+
+    def test_buildings(self):
+        from tollroads.buildings import building_prices, building_states, cheapest_building, shares
+        building = (3, ((0, 1, 6), (1, 2, 0), (0, 2, 9)), ((0, 2), (0, 2)))
+        self.check([shares(building, ((0, 1), (0, 1))), cheapest_building(building), building_states(building),
+                    building_prices(building)],
+                   "[((3, 1), (3, 1)), (6, ((0, 1), (0, 1))), (((0, 1), (0, 1)), ((2,), (2,))), ((1, 1), (3, 2))]")
+
+    def test_widenings(self):
+        from tollroads.widenings import amount_range, best_widening, widened
+        flat = (2, ((0, 1, 0, 5), (0, 1, 0, 5), (0, 1, 1, 3)))
+        trips = ((0, 1, (4, 1)),)
+        self.check([amount_range(flat, trips, 0, (0,)), best_widening(flat, trips, 1), widened(flat, 2, 0)[1][2]],
+                   "[((0, 1), (2, 1)), ((12, 1), (0, 0, 1)), (0, 1, 0, 3)]")
+
+    def test_town(self):
+        from tollroads.town import Town
+        town = Town((2, ((0, 1, 1, 2),)))
+        first = [town.put('a', (0, 1, (3, 1))), town.toll(0, (1, 2))]
+        self.check([first, town.names(), town.costs(), town.income(), town.undo(), town.costs()],
+                   "[[None, (0, 1)], ('a',), ((11, 2),), (3, 2), None, ((5, 1),)]")
+
+    def test_gametext(self):
+        from tollroads.gametext import read_game, write_game
+        text = '3 | 0 1 : 1 2 | 1 2 : 0 0 # 0 2 # 0 2'
+        self.check([read_game(text), write_game(read_game(text)) == text],
+                   "[(3, ((0, 1, (1, 2)), (1, 2, (0, 0))), ((0, 2), (0, 2))), True]")
 
 
 if __name__ == "__main__":

@@ -2,9 +2,9 @@
 
 import unittest
 
-from tests.gamesupport import (ALONE, CROWD, FREE, MORE_STATES, NINE_WAYS, ONE, PAIR, THOUSAND_STATES, better_steps_of,
-                               chain_game, changed, counts_of, lanes_game, plain, sample_games, standing_of, states_of,
-                               tables_of, times_of)
+from tests.gamesupport import (ALONE, BAD_GAMES, BAD_STATES, CROWD, FREE, NINE_WAYS, ONE, PAIR, THOUSAND_STATES,
+                               TOO_LARGE, better_steps_of, chain_game, changed, counts_of, lanes_game, plain,
+                               sample_games, standing_of, states_of, tables_of, times_of)
 from tests.support import INTEGER_WRONGS, Raising, number, ratio
 from tollroads.errors import BadGame, BadState, TooMany
 from tollroads.standings import (best_answers, best_state, better_steps, lowest_state, shows_walk, standing_prices,
@@ -191,26 +191,19 @@ class ShowsWalkTest(Raising, unittest.TestCase):
 class WrongTest(Raising, unittest.TestCase):
     def test_games(self):
         for function in (*OF_GAME, *OF_STATE, shows_walk):
-            for index, game in ((None, None), (None, [*PAIR]), (None, (7, *PAIR[1:])), (0, (3, ("x",), ("x",))),
-                                (2, (3, (*PAIR[1][:2], (0, 2, (5, 2))), PAIR[2])), (0, (3, PAIR[1], ((0, 2),))),
-                                (3, (3, PAIR[1], ((2, 0), (0, 2)))), (4, (3, PAIR[1], ((0, 2), (2, 2))))):
+            for index, game in BAD_GAMES:
                 self.assert_raises(BadGame, {"index": index}, call, function, game, "x")
 
     def test_states(self):
         for function in (*OF_STATE, shows_walk):
-            for state in (*INTEGER_WRONGS, ((2,),), ((2,), (2,), (2,)), [(2,), (2,)], ((2,), (1,)), ((2,), (True,)),
-                          ((2,), [2]), ((0, True), (2,)), ((2,), None)):
+            for state in BAD_STATES:
                 self.assert_raises(BadState, {}, call, function, PAIR, state)
                 self.assert_raises(BadState, {}, call, function, NINE_WAYS, state)
 
     def test_bounds(self):
         for function in (*OF_GAME, *OF_STATE, shows_walk):
-            self.assert_raises(TooMany, {"most": 8}, call, function, NINE_WAYS, ((0, 3), (1,)))
-            self.assert_raises(TooMany, {"most": 8}, call, function, chain_game((4, 3), ((0, 1),) * 3 + ((0, 2),)),
-                               ((0,), (0,), (0,), (0, 4)))
-            self.assert_raises(TooMany, {"most": 1000}, call, function, MORE_STATES,
-                               ((0, 2, 4), (0, 2, 4), (0, 2), (2, 4)))
-            self.assert_raises(TooMany, {"most": 1000}, call, function, lanes_game(6, 4), ((0,),) * 4)
+            for most, game, state in TOO_LARGE:
+                self.assert_raises(TooMany, {"most": most}, call, function, game, state)
             call(function, THOUSAND_STATES, ((7,), (6, 0), (6, 3), (0, 5)))
             call(function, lanes_game(8, 2), ((0,), (7,)))
 

@@ -3,8 +3,9 @@
 import unittest
 from functools import lru_cache
 
-from tests.gamesupport import (ALONE, CROWD, FREE, MORE_STATES, NINE_WAYS, ONE, PAIR, THOUSAND_STATES, better_steps_of,
-                               chain_game, changed, lanes_game, plain, sample_games, states_of, tables_of)
+from tests.gamesupport import (ALONE, BAD_GAMES, BAD_STATES, CROWD, FREE, NINE_WAYS, ONE, PAIR, THOUSAND_STATES,
+                               TOO_LARGE, better_steps_of, chain_game, changed, lanes_game, plain, sample_games,
+                               states_of, tables_of)
 from tests.support import INTEGER_WRONGS, Raising
 from tollroads.errors import BadGame, BadState, TooMany
 from tollroads.walks import fewest_steps, longest_walk, shows_longest
@@ -129,7 +130,8 @@ class LongestTest(Raising, unittest.TestCase):
                 self.assertIs(shows_longest(game, near), wanted, (game, near))
 
     def near(self, game, state, walk):
-        yield from ((state, walk[:-1]), (state, walk[1:]), (state, walk[::-1]), (state, (*walk, *walk[-1:])), (walk, state))
+        yield from ((state, walk[:-1]), (state, walk[1:]), (state, walk[::-1]), (state, (*walk, *walk[-1:])))
+        yield (walk, state)
         if walk:
             yield (changed(state, *walk[0]), walk[1:])
         for other in states_of(game)[::4]:
@@ -157,8 +159,8 @@ class LongestTest(Raising, unittest.TestCase):
         right = (((1,),), ((0, (0,)),))
         self.assertIs(shows_longest(ONE, right), True)
         for value in (*INTEGER_WRONGS, [*right], right[:1], (*right, ()), right[::-1], {0: right}, (right, right),
-                      ([(1,)], right[1]), (([1],), right[1]), (((True,),), right[1]), (None, right[1]), (right[0], None),
-                      (right[0], [*right[1]]), (right[0], ([0, (0,)],)), (right[0], ((0, [0]),)),
+                      ([(1,)], right[1]), (([1],), right[1]), (((True,),), right[1]), (None, right[1]),
+                      (right[0], None), (right[0], [*right[1]]), (right[0], ([0, (0,)],)), (right[0], ((0, [0]),)),
                       (right[0], ((False, (0,)),)), (right[0], ((0, (False,)),)), (right[0], ((0, (1,)),)),
                       (right[0], ((1, (0,)),)), (right[0], ((-1, (0,)),)), (right[0], ()), (right[0], (None,)),
                       (((0,),), right[1]), (((0,),), ()), (((1,), (1,)), right[1]), ({}, {}), ((), ())):
@@ -177,23 +179,18 @@ class WrongTest(Raising, unittest.TestCase):
 
     def test_games(self):
         for function in (fewest_steps, longest_walk, shows_longest):
-            for index, game in ((None, None), (None, [*PAIR]), (None, (7, *PAIR[1:])), (0, (3, ("x",), ("x",))),
-                                (2, (3, (*PAIR[1][:2], (0, 2, (5, 2))), PAIR[2])), (0, (3, PAIR[1], ((0, 2),))),
-                                (3, (3, PAIR[1], ((2, 0), (0, 2)))), (4, (3, PAIR[1], ((0, 2), (2, 2))))):
+            for index, game in BAD_GAMES:
                 self.assert_raises(BadGame, {"index": index}, self.call, function, game, "x")
 
     def test_states(self):
-        for state in (*INTEGER_WRONGS, ((2,),), ((2,), (2,), (2,)), [(2,), (2,)], ((2,), (1,)), ((2,), (True,)),
-                      ((2,), [2]), ((0, True), (2,)), ((2,), None)):
+        for state in BAD_STATES:
             self.assert_raises(BadState, {}, fewest_steps, PAIR, state)
             self.assert_raises(BadState, {}, fewest_steps, NINE_WAYS, state)
 
     def test_bounds(self):
         for function in (fewest_steps, longest_walk, shows_longest):
-            self.assert_raises(TooMany, {"most": 8}, self.call, function, NINE_WAYS, ((0, 3), (1,)))
-            self.assert_raises(TooMany, {"most": 1000}, self.call, function, MORE_STATES,
-                               ((0, 2, 4), (0, 2, 4), (0, 2), (2, 4)))
-            self.assert_raises(TooMany, {"most": 1000}, self.call, function, lanes_game(6, 4), ((0,),) * 4)
+            for most, game, state in TOO_LARGE:
+                self.assert_raises(TooMany, {"most": most}, self.call, function, game, state)
             self.call(function, THOUSAND_STATES, ((7,), (6, 0), (6, 3), (0, 5)))
 
 

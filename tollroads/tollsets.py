@@ -6,10 +6,11 @@ from tollroads.climbs import Climb
 from tollroads.equilibria import costs_nothing_less
 from tollroads.errors import TooMany
 from tollroads.nets import check_few, is_way
-from tollroads.ratios import ZERO, add, add_all, add_products, divide, less, multiply, on_one_bottom, subtract
+from tollroads.ratios import ZERO, add, add_all, add_products, divide, on_one_bottom, subtract
 from tollroads.roadflows import road_flows, road_times
 from tollroads.shapes import are_amounts, is_ascending, is_ratio, is_row, is_whole
 from tollroads.spreads import way_cost
+from tollroads.tollpapers import is_least_pair, proves
 from tollroads.trips import check_routing, demands_of, trip_tables
 
 MOST_ROADS = 8
@@ -118,13 +119,7 @@ class Case:
             return False
         found, changes = value
         added = self.added(changes)
-        spent = add_products(added, self.times)
-        if not found:
-            return spent[0] < 0 and all([more[0] <= 0 for more in added])
-        least = self.least_pair()
-        if least is None or any([less(flow, more) for more, flow in zip(added, self.flows)]):
-            return False
-        return spent == multiply((-1, 1), least[0])
+        return proves(self, found, added, add_products(added, self.times))
 
 
 def moves_between(trip, table, used):
@@ -154,14 +149,7 @@ def toll_paper(net, trips, routing):
 
 def shows_tolls(net, trips, routing, value):
     """Tell whether a value is a pair as `least_tolls` may return, or None where there are no tolls."""
-    case = checked_case(net, trips, routing)
-    least = case.least_pair()
-    if value is None:
-        return least is None
-    # Where there are no tolls, none can be told, so that there are least ones behind this question.
-    if not (is_row(value, 2, 2) and is_ratio(value[0]) and case.are_tolls(value[1])):
-        return False
-    return value[0] == least[0] == add_products(case.flows, value[1])
+    return is_least_pair(checked_case(net, trips, routing), value)
 
 
 def shows_toll_paper(net, trips, routing, value):
